@@ -1,0 +1,1 @@
+"""Drawnbits: draws out of bits, and bits out of draws."""

@@ -1,0 +1,90 @@
+"""What several files need: checks of integers, and fractions in lowest terms."""
+
+from math import gcd
+
+
+def is_integer(thing):
+    """Whether any value is an integer; a bool is none."""
+    return isinstance(thing, int) and not isinstance(thing, bool)
+
+
+def are_integers(thing, low, high):
+    """Whether any value is a tuple, perhaps (), of integers from low to high."""
+    return isinstance(thing, tuple) and all([is_integer(item) and low <= item <= high for item in thing])
+
+
+def is_lot(thing, many):
+    """Whether any value is an ascending tuple of positions below many."""
+    return are_integers(thing, 0, many - 1) and all([one < other for one, other in zip(thing, thing[1:])])
+
+
+def is_number(thing):
+    """Whether any value is an integer from 0 on."""
+    return is_integer(thing) and thing >= 0
+
+
+def lowest(top, bottom):
+    """The fraction top / bottom in lowest terms, bottom being above 0."""
+    shared = gcd(top, bottom)
+    return (top // shared, bottom // shared)
+
+
+def added(one, other):
+    """The sum of two fractions."""
+    return lowest(one[0] * other[1] + other[0] * one[1], one[1] * other[1])
+
+
+def total(fractions):
+    """The sum of all fractions, 0 for none."""
+    found = (0, 1)
+    for fraction in fractions:
+        found = added(found, fraction)
+    return found
+
+
+def times(one, other):
+    """The product of two fractions."""
+    return lowest(one[0] * other[0], one[1] * other[1])
+
+
+def divided(one, other):
+    """The first fraction divided by the second one, which is above 0."""
+    return lowest(one[0] * other[1], one[1] * other[0])
+
+
+def apart(one, other):
+    """The amount by which two fractions differ."""
+    return lowest(abs(one[0] * other[1] - other[0] * one[1]), one[1] * other[1])
+
+
+def is_above(one, other):
+    """Whether the first fraction is greater than the second one."""
+    return one[0] * other[1] > other[0] * one[1]
+
+
+def power(base, many):
+    """The power of base with the exponent many, from 0 on; 1 for the exponent 0."""
+    found = 1
+    square = base
+    left = many
+    while left > 0:
+        if left & 1:
+            found = found * square
+        left = left // 2
+        # The last square would be the greatest one, and for nothing.
+        if left > 0:
+            square = square * square
+    return found
+
+
+def power_modulo(base, many, modulus):
+    """What is left of the power of base with the exponent many, divided by modulus."""
+    found = 1 % modulus
+    square = base % modulus
+    left = many
+    while left > 0:
+        if left & 1:
+            found = found * square % modulus
+        left = left // 2
+        square = square * square % modulus
+    return found
