@@ -55,17 +55,17 @@ def fraction_of(told):
         raise BadFigures(told)
     whole, ahead, cycle = told
     scale = 1 << len(ahead)
-    found = lowest(whole * scale + binary(ahead), scale)
+    found = lowest(whole * scale + in_base_two(ahead), scale)
     if cycle == ():
         return found
-    return added(found, lowest(binary(cycle), scale * ((1 << len(cycle)) - 1)))
+    return added(found, lowest(in_base_two(cycle), scale * ((1 << len(cycle)) - 1)))
 
 
-def binary(digits):
-    """The integer with these digits in base two."""
+def in_base_two(numbers):
+    """The sum of all numbers, each counted twice as much as the one behind it, the last one once."""
     found = 0
-    for bit in digits:
-        found = 2 * found + bit
+    for number in numbers:
+        found = 2 * found + number
     return found
 
 
@@ -99,19 +99,11 @@ def weight(fraction):
     # so it is the sum of the rests behind k digits, each divided by the k-th power of 2.
     lefts, start = lefts_of(top, bottom)
     many = len(lefts) - start
-    ahead = scaled(lefts[:start])
-    cycle = scaled(lefts[start:])
+    ahead = in_base_two(lefts[:start])
+    cycle = in_base_two(lefts[start:])
     endless = (1 << many) - 1
     scale = bottom << start
     return added(lowest(2 * ahead, scale), lowest(2 * cycle, scale * endless))
-
-
-def scaled(lefts):
-    """The sum of all lefts, each worth half of the one ahead, the last one as it is."""
-    found = 0
-    for left in lefts:
-        found = 2 * found + left
-    return found
 
 
 def is_entropy_at_least(table, fraction):
