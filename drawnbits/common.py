@@ -2,15 +2,31 @@
 
 from math import gcd
 
+from drawnbits.errors import BadNumber
+
 
 def is_integer(thing):
     """Whether any value is an integer; a bool is none."""
     return isinstance(thing, int) and not isinstance(thing, bool)
 
 
+def is_within(thing, low, high):
+    """Whether any value is an integer from low to high."""
+    return is_integer(thing) and low <= thing <= high
+
+
 def are_integers(thing, low, high):
     """Whether any value is a tuple, perhaps (), of integers from low to high."""
-    return isinstance(thing, tuple) and all([is_integer(item) and low <= item <= high for item in thing])
+    return isinstance(thing, tuple) and all([is_within(item, low, high) for item in thing])
+
+
+def are_pairs(thing, firsts):
+    """Whether any value is a tuple of pairs whose first items are just these integers, in their order."""
+    if not isinstance(thing, tuple) or len(thing) != len(firsts):
+        return False
+    if not all([isinstance(item, tuple) and len(item) == 2 and is_integer(item[0]) for item in thing]):
+        return False
+    return all([item[0] == first for item, first in zip(thing, firsts)])
 
 
 def is_lot(thing, many):
@@ -21,6 +37,12 @@ def is_lot(thing, many):
 def is_number(thing):
     """Whether any value is an integer from 0 on."""
     return is_integer(thing) and thing >= 0
+
+
+def check_number(k):
+    """Raises the error of a value that is no integer from 0 on."""
+    if not is_number(k):
+        raise BadNumber(k)
 
 
 def lowest(top, bottom):

@@ -2,7 +2,7 @@
 
 from math import lcm
 
-from drawnbits.common import added, are_integers, is_number, lowest, power, power_modulo
+from drawnbits.common import added, are_integers, check_number, is_number, lowest, power, power_modulo
 from drawnbits.errors import BadFigures, BadFraction, BadNumber
 from drawnbits.tables import check_amount, check_table, is_fraction
 
@@ -86,8 +86,7 @@ def digit(fraction, k):
 def rest_at(fraction, k):
     """The rest of a fraction behind k digits."""
     check_amount(fraction)
-    if not is_number(k):
-        raise BadNumber(k)
+    check_number(k)
     return lowest(left_behind(fraction, k), fraction[1])
 
 

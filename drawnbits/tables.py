@@ -23,6 +23,11 @@ def is_amount(thing):
     return is_fraction(thing) and thing[0] >= 0
 
 
+def are_amounts(thing, many):
+    """Whether any value is a tuple of so many fractions from 0 on."""
+    return isinstance(thing, tuple) and len(thing) == many and all([is_amount(item) for item in thing])
+
+
 def are_tables(thing):
     """Whether any value is a tuple, perhaps (), of tables."""
     return isinstance(thing, tuple) and all([is_table(item) for item in thing])
@@ -32,7 +37,7 @@ def is_table(thing):
     """Whether any value is a table."""
     if not isinstance(thing, tuple) or not 1 <= len(thing) <= MOST_OUTCOMES:
         return False
-    return all([is_amount(chance) for chance in thing]) and total(thing) == (1, 1)
+    return are_amounts(thing, len(thing)) and total(thing) == (1, 1)
 
 
 def check_table(table):

@@ -90,7 +90,7 @@ class Case(unittest.TestCase):
     def assert_fraction(self, found, number):
         self.assert_same(found, pair(number))
 
-    def assert_raised(self, error, parameters, call, *args, **named):
+    def assert_raised(self, error, parameters, call, /, *args, **named):
         """The call raises just this error with just these attributes, and leaves its arguments as they were."""
         before = repr((args, named))
         with self.assertRaises(DrawError) as caught:
@@ -99,10 +99,10 @@ class Case(unittest.TestCase):
         self.assert_same(vars(caught.exception), parameters)
         self.assertEqual(before, repr((args, named)))
 
-    def assert_bad(self, error, thing, call, *args, **named):
+    def assert_bad(self, error, thing, call, /, *args, **named):
         self.assert_raised(error, {"thing": thing}, call, *args, **named)
 
-    def assert_calls(self, wanted, call, **named):
+    def assert_calls(self, wanted, call, /, **named):
         """The call gives the same by position, by name and once more, and leaves its arguments as they were."""
         before = repr(named)
         for _ in range(2):

@@ -2,8 +2,10 @@
 
 import unittest
 
-from drawnbits.common import power, power_modulo
-from support import Case
+from drawnbits.common import are_pairs, power, power_modulo
+from drawnbits.equations import solved
+from drawnbits.walks import steps_to, walked
+from support import JUNK, Case, fraction
 
 
 class CommonTest(Case):
@@ -18,6 +20,34 @@ class CommonTest(Case):
             for many in list(range(12)) + [10 ** 30, 2 ** 100 - 1]:
                 for modulus in range(1, 12):
                     self.assert_same(power_modulo(base, many, modulus), pow(base, many, modulus))
+
+    def test_pairs(self):
+        for thing in (((2, None), (5, [])), ((2, ()), (5, 2))):
+            self.assertIs(are_pairs(thing, (2, 5)), True)
+            self.assertIs(are_pairs(thing, [2, 5]), True)
+            for firsts in ((), (2,), (5, 2), (2, 5, 5), (2, 6)):
+                self.assertIs(are_pairs(thing, firsts), False)
+        for thing in JUNK + (((1, 0), [5, 0]), ((True, 0), (5, 0)), ((1,), (5, 0)), ((1, 0, 0), (5, 0)), (1, 5)):
+            self.assertIs(are_pairs(thing, (1, 5)), False)
+        self.assertIs(are_pairs((), ()), True)
+        self.assertIs(are_pairs([], ()), False)
+
+    def test_equations(self):
+        # 3 a = 2 b + 1, 4 b = a + c + 2, 5 c = 3 a + b, with the known numbers also as 0 and as three times these.
+        found = solved({"a": (3, {"b": 2}, (1, 0, 3)), "b": (4, {"a": 1, "c": 1}, (2, 0, 6)),
+                        "c": (5, {"a": 3, "b": 1}, (0, 0, 0))})
+        told = {key: [fraction(number) for number in numbers] for key, numbers in found.items()}
+        self.assertEqual(sorted(told), ["a", "b", "c"])
+        for at, scale in enumerate((1, 0, 3)):
+            a, b, c = [told[key][at] for key in "abc"]
+            self.assertEqual([3 * a, 4 * b, 5 * c], [2 * b + scale, a + c + 2 * scale, 3 * a + b])
+        self.assertEqual(solved({}), {})
+
+    def test_walks(self):
+        leads = {0: (1, 2), 1: (3, 3), 2: (0, 3), 3: (4,), 4: (), 5: (0,)}
+        came = walked(0, lambda node: leads[node])
+        self.assertEqual(list(came), [0, 1, 2, 3, 4])
+        self.assertEqual([steps_to(came, node) for node in came], [(), (0,), (1,), (0, 0), (0, 0, 0)])
 
 
 if __name__ == "__main__":

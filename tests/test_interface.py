@@ -6,9 +6,11 @@ import inspect
 import pathlib
 import unittest
 
+from coins import COIN, LATE
 from support import HALVES, THIRDS, Case
 
 PACKAGE = pathlib.Path(__file__).resolve().parent.parent / "drawnbits"
+PROGRAM = ("map", ("place", 2, 3), (1, 0, 1), 2)
 # Each function of the interface with its parameters in their order, and valid arguments for them.
 FUNCTIONS = {
     "tables": {
@@ -31,8 +33,47 @@ FUNCTIONS = {
         "digit": {"fraction": (7, 12), "k": 3},
         "rest_at": {"fraction": (7, 12), "k": 3},
         "weight": {"fraction": (7, 12)},
-        "is_entropy_at_least": {"table": THIRDS, "fraction": (3, 2)}}}
-WHETHER = ("is_", "are_", "_holds", "_hold")
+        "is_entropy_at_least": {"table": THIRDS, "fraction": (3, 2)}},
+    "machines": {
+        "is_machine": {"thing": LATE},
+        "are_bits": {"thing": (0, 1)},
+        "run": {"machine": LATE, "bits": (1, 1, 0)},
+        "reached": {"machine": LATE},
+        "many_rows": {"machine": LATE, "i": 1, "k": 3},
+        "chances_within": {"machine": LATE, "t": 3},
+        "tail": {"machine": LATE, "t": 3},
+        "judge_ends": {"machine": LATE},
+        "ends_hold": {"machine": LATE, "thing": ("closed", (1,), (2,))},
+        "does_end": {"machine": LATE},
+        "chances": {"machine": LATE},
+        "drawn_table": {"machine": LATE},
+        "mean": {"machine": LATE},
+        "judge_table": {"machine": LATE, "table": HALVES},
+        "table_holds": {"machine": LATE, "table": HALVES, "thing": ("over", 1, 3)}},
+    "best": {
+        "judge_best": {"machine": LATE},
+        "best_holds": {"machine": LATE, "thing": ("late", (1, 0))},
+        "waste": {"machine": LATE},
+        "first_waste": {"machine": LATE},
+        "floor_at": {"table": THIRDS, "t": 3},
+        "least_mean": {"table": THIRDS},
+        "best_machine": {"table": THIRDS}},
+    "alike": {
+        "folded": {"machine": LATE},
+        "judge_runs": {"one": LATE, "other": COIN},
+        "runs_hold": {"one": LATE, "other": COIN, "thing": ("bits", (1,))},
+        "judge_lengths": {"one": LATE, "other": COIN},
+        "lengths_hold": {"one": LATE, "other": COIN, "thing": ("length", 1, 1)},
+        "are_alike": {"one": LATE, "other": COIN}},
+    "programs": {
+        "is_program": {"thing": PROGRAM},
+        "outcomes_of": {"program": PROGRAM},
+        "places_of": {"program": PROGRAM},
+        "is_closed": {"program": PROGRAM},
+        "meaning": {"program": ("draw", THIRDS)},
+        "filled": {"program": PROGRAM, "fillings": ((2, THIRDS),)},
+        "worked_out": {"program": PROGRAM}}}
+WHETHER = ("is_", "are_", "does_", "_holds", "_hold")
 
 
 def listed():
@@ -77,13 +118,14 @@ class InterfaceTest(Case):
             with self.subTest(name):
                 found = function(**arguments)
                 self.assertTrue(is_plain(found))
-                whether = name.startswith(WHETHER[:2]) or name.endswith(WHETHER[2:])
+                whether = name.startswith(WHETHER[:3]) or name.endswith(WHETHER[3:])
                 self.assertIs(found.__class__ is bool, whether)
 
     def test_whether_is_told_by_bools(self):
         for _, name, function, arguments in listed():
             if "thing" in arguments:
-                for thing in (None, (), [], {}, 0, "", False, [0], ((),), (0, (), ()), (0, 1), ((1, 1),), ("within",)):
+                for thing in (None, (), [], {}, 0, "", False, [0], ((),), (0, (), ()), (0, 1), ((1, 1),), ("within",),
+                              ("sure", ()), ("best",), ("alike",), ("same", None), ("draws", [])):
                     with self.subTest(name=name, thing=thing):
                         self.assertIs(function(**dict(arguments, thing=thing)).__class__, bool)
 
