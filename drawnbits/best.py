@@ -149,11 +149,15 @@ def first_waste(machine):
     """The least t at which the tail of a machine is above the floor of the table that it draws, None if it is best."""
     if judge_best(machine) == ("best",):
         return None
-    table = drawn_table(machine)
+    return first_above(machine[1], drawn_table(machine))
+
+
+def first_above(standings, table):
+    """The least t at which the tail of a machine is above the floor of the table that it draws; there must be one."""
     rows = {0: 1}
     t = 0
-    while going_on(machine[1], rows) == rests_at(table, t):
-        rows = led_on(machine[1], rows)
+    while going_on(standings, rows) == rests_at(table, t):
+        rows = led_on(standings, rows)
         t = t + 1
     return t
 

@@ -45,6 +45,14 @@ def check_number(k):
         raise BadNumber(k)
 
 
+def is_like(thing, told):
+    """Whether any value equals a told one of integers, strings and tuples, on each level; True is no 1."""
+    if isinstance(told, tuple):
+        is_as_long = isinstance(thing, tuple) and len(thing) == len(told)
+        return is_as_long and all([is_like(one, other) for one, other in zip(thing, told)])
+    return (isinstance(thing, str) or is_integer(thing)) and thing == told
+
+
 def lowest(top, bottom):
     """The fraction top / bottom in lowest terms, bottom being above 0."""
     shared = gcd(top, bottom)

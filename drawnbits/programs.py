@@ -132,11 +132,15 @@ def is_closed(program):
     return places_within(program) == []
 
 
+def check_closed(program):
+    """Raises the error of a value that is no closed program."""
+    if not is_closed(program):
+        raise BadProgram(program)
+
+
 def meaning(program):
     """The table of the chances of the outcomes of a closed program."""
-    check_program(program)
-    if places_within(program) != []:
-        raise BadProgram(program)
+    check_closed(program)
     return meaning_of(program)
 
 
@@ -158,13 +162,16 @@ def meaning_of(program):
 def filled(program, fillings):
     """A program with draws by the tables of fillings in the place of its open places."""
     check_program(program)
-    told = places_within(program)
-    if not are_pairs(fillings, [name for name, _ in told]):
+    if not are_fillings(fillings, places_within(program)):
         raise BadFillings(fillings)
-    for filling, place in zip(fillings, told):
-        if not is_table(filling[1]) or len(filling[1]) != place[1]:
-            raise BadFillings(fillings)
     return filled_by(program, dict(fillings))
+
+
+def are_fillings(thing, places):
+    """Whether any value is fillings of just these places, told by their pairs (name, n)."""
+    if not are_pairs(thing, [name for name, _ in places]):
+        return False
+    return all([is_table(table) and len(table) == place[1] for (_, table), place in zip(thing, places)])
 
 
 def filled_by(program, tables):

@@ -58,6 +58,23 @@ def rows_behind(standings, k):
     return rows
 
 
+def few_rows_behind(standings, k, most):
+    """How many rows of k bits lead to each standing, from the beginning, counted no further than to most."""
+    seen = {}
+    told = []
+    rows = {0: 1}
+    while len(told) < k:
+        # Counted so, the numbers come again and again sooner or later, however great k is.
+        key = tuple(sorted(rows.items()))
+        if key in seen:
+            start = seen[key]
+            return told[start + (k - start) % (len(told) - start)]
+        seen[key] = len(told)
+        told.append(rows)
+        rows = {at: min(many, most) for at, many in led_on(standings, rows).items()}
+    return rows
+
+
 def ended(machine, rows):
     """How many of the rows that lead to each standing end at each outcome."""
     n, standings = machine

@@ -2,8 +2,10 @@
 
 import unittest
 
-from drawnbits.common import are_pairs, power, power_modulo
+from coins import DIE_OF_SIX, MACHINES, NEVER_OF_THREE
+from drawnbits.common import are_pairs, is_like, power, power_modulo
 from drawnbits.equations import solved
+from drawnbits.standings import few_rows_behind, rows_behind
 from drawnbits.walks import steps_to, walked
 from support import JUNK, Case, fraction
 
@@ -31,6 +33,21 @@ class CommonTest(Case):
             self.assertIs(are_pairs(thing, (1, 5)), False)
         self.assertIs(are_pairs((), ()), True)
         self.assertIs(are_pairs([], ()), False)
+
+    def test_alike_kind_by_kind(self):
+        for told in (0, 1, 3, "", "1", (), (1,), (0, "a", (1, (2, 3))), ((), ((),))):
+            for thing in JUNK + (0, 1, 3, "1", (), (1,), (True,), [1], (0, "a", (1, (2, 3))), (0, "a", (True, (2, 3))),
+                                 (0, "a", [1, (2, 3)]), (0, "a", (1, (2, 3.0))), (False, "a", (1, (2, 3))), ((), ((),)),
+                                 ((), ([],)), (0, "a", (1, (2, 3), ())), (0, "a", (1, (2,)))):
+                self.assertIs(is_like(thing, told), repr(thing) == repr(told))
+
+    def test_rows_counted_no_further(self):
+        for machine in MACHINES + (DIE_OF_SIX, NEVER_OF_THREE):
+            for k in list(range(12)) + [57, 58, 59, 60, 199]:
+                for most in (1, 2, 8):
+                    wanted = {at: min(many, most) for at, many in rows_behind(machine[1], k).items()}
+                    self.assertEqual(few_rows_behind(machine[1], k, most), wanted)
+        self.assertEqual(few_rows_behind(NEVER_OF_THREE[1], 10 ** 99, 8), {0: 8, 1: 8, 2: 8})
 
     def test_equations(self):
         # 3 a = 2 b + 1, 4 b = a + c + 2, 5 c = 3 a + b, with the known numbers also as 0 and as three times these.

@@ -11,6 +11,8 @@ from support import HALVES, THIRDS, Case
 
 PACKAGE = pathlib.Path(__file__).resolve().parent.parent / "drawnbits"
 PROGRAM = ("map", ("place", 2, 3), (1, 0, 1), 2)
+OPEN = ("place", 0, 2)
+CLOSED = ("again", ("bind", ("draw", HALVES), (("draw", THIRDS), ("value", 3, 1))), (0, 1))
 # Each function of the interface with its parameters in their order, and valid arguments for them.
 FUNCTIONS = {
     "tables": {
@@ -72,8 +74,34 @@ FUNCTIONS = {
         "is_closed": {"program": PROGRAM},
         "meaning": {"program": ("draw", THIRDS)},
         "filled": {"program": PROGRAM, "fillings": ((2, THIRDS),)},
-        "worked_out": {"program": PROGRAM}}}
-WHETHER = ("is_", "are_", "does_", "_holds", "_hold")
+        "worked_out": {"program": PROGRAM}},
+    "forms": {
+        "form_of": {"program": PROGRAM},
+        "judge_programs": {"program": OPEN, "other": ("map", OPEN, (1, 0), 2)},
+        "programs_hold": {"program": OPEN, "other": ("map", OPEN, (1, 0), 2),
+                          "thing": ("fillings", ((0, ((1, 3), (2, 3))),))}},
+    "compiling": {
+        "plain_cost": {"program": CLOSED},
+        "best_cost": {"program": CLOSED},
+        "plain_machine": {"program": CLOSED},
+        "is_plain_machine": {"program": CLOSED, "thing": LATE},
+        "length_chance": {"program": CLOSED, "outcome": 1, "t": 3},
+        "made_tail": {"program": CLOSED, "t": 3},
+        "judge_cost": {"program": CLOSED},
+        "cost_holds": {"program": CLOSED, "thing": ("more", 1)}},
+    "leftover": {
+        "wanted": {"w": 3, "rest": (3, 1), "n": 5, "bits": (1, 0, 1, 1, 0)},
+        "row_wanted": {"w": 3, "wants": (5, 2, 3), "bits": (1, 0, 1, 1, 0, 0, 1, 1, 1)},
+        "sizes": {"w": 3, "wants": (5, 2, 3)},
+        "mean_bits": {"w": 3, "wants": (5, 2, 3)},
+        "long_run": {"w": 3, "n": 5}},
+    "few": {
+        "can_be_drawn": {"table": THIRDS, "t": 3},
+        "nearest": {"table": THIRDS, "t": 3},
+        "judge_nearest": {"table": ((1, 3), (2, 3)), "t": 2, "other": HALVES},
+        "nearest_holds": {"table": ((1, 3), (2, 3)), "t": 2, "other": HALVES, "thing": ("nearer", ((1, 4), (3, 4)))},
+        "least_bits": {"table": THIRDS, "fraction": (1, 100)}}}
+WHETHER = ("is_", "are_", "does_", "can_", "_holds", "_hold")
 
 
 def listed():
@@ -118,14 +146,15 @@ class InterfaceTest(Case):
             with self.subTest(name):
                 found = function(**arguments)
                 self.assertTrue(is_plain(found))
-                whether = name.startswith(WHETHER[:3]) or name.endswith(WHETHER[3:])
+                whether = name.startswith(WHETHER[:4]) or name.endswith(WHETHER[4:])
                 self.assertIs(found.__class__ is bool, whether)
 
     def test_whether_is_told_by_bools(self):
         for _, name, function, arguments in listed():
             if "thing" in arguments:
                 for thing in (None, (), [], {}, 0, "", False, [0], ((),), (0, (), ()), (0, 1), ((1, 1),), ("within",),
-                              ("sure", ()), ("best",), ("alike",), ("same", None), ("draws", [])):
+                              ("sure", ()), ("best",), ("alike",), ("same", None), ("draws", []), ("nearest",),
+                              ("more", None), ("fillings", [])):
                     with self.subTest(name=name, thing=thing):
                         self.assertIs(function(**dict(arguments, thing=thing)).__class__, bool)
 
