@@ -2,7 +2,7 @@
 
 from math import lcm
 
-from drawnbits.common import apart, check_number, lowest, total
+from drawnbits.common import apart, check_number, is_power_of_two, lowest, total
 from drawnbits.figures import digit, figures, rest_at, weight
 from drawnbits.machines import are_bits, check_end, drawn_table, mean, run
 from drawnbits.standings import chances_from, followers, going_on, is_out, led_on, ways_from
@@ -84,7 +84,7 @@ def row_late(machine):
 def many_digits(chance):
     """The number of digits of a chance behind the point, None if they come again and again without an end."""
     bottom = chance[1]
-    return bottom.bit_length() - 1 if bottom & (bottom - 1) == 0 else None
+    return bottom.bit_length() - 1 if is_power_of_two(bottom) else None
 
 
 def row_above(standings, end, most):

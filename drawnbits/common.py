@@ -53,6 +53,11 @@ def is_like(thing, told):
     return (isinstance(thing, str) or is_integer(thing)) and thing == told
 
 
+def is_power_of_two(number):
+    """Whether a number above 0 is a power of 2."""
+    return number & (number - 1) == 0
+
+
 def lowest(top, bottom):
     """The fraction top / bottom in lowest terms, bottom being above 0."""
     shared = gcd(top, bottom)

@@ -1,18 +1,13 @@
 """Tables that can be drawn with at most so many bits, and those of them that are nearest to a table."""
 
-from drawnbits.common import check_number, is_above, lowest
+from drawnbits.common import check_number, is_above, is_power_of_two, lowest
 from drawnbits.errors import BadTable, OtherSize
 from drawnbits.tables import amount_apart, check_amount, check_table, is_table
 
 
 def is_within_bits(table, t):
     """Whether all chances of a table are whole numbers of 2 ** t-th parts."""
-    return all([is_power(bottom) and bottom.bit_length() <= t + 1 for _, bottom in table])
-
-
-def is_power(number):
-    """Whether a number above 0 is a power of 2."""
-    return number & (number - 1) == 0
+    return all([is_power_of_two(bottom) and bottom.bit_length() <= t + 1 for _, bottom in table])
 
 
 def can_be_drawn(table, t):
@@ -82,7 +77,7 @@ def least_bits(table, fraction):
     """The least t such that a table within t bits is at most this far from a table, None if there is none."""
     check_table(table)
     check_amount(fraction)
-    if fraction == (0, 1) and not all([is_power(bottom) for _, bottom in table]):
+    if fraction == (0, 1) and not all([is_power_of_two(bottom) for _, bottom in table]):
         return None
     t = 0
     while is_above(amount_apart(table, nearest_to(table, t)), fraction):

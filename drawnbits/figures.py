@@ -69,6 +69,11 @@ def in_base_two(numbers):
     return found
 
 
+def digits_of(number, many):
+    """The last so many digits of a number from 0 on in base two."""
+    return tuple([number >> (many - 1 - k) & 1 for k in range(many)])
+
+
 def left_behind(fraction, k):
     """What is left of a fraction behind k digits, in its bottoms."""
     top, bottom = fraction

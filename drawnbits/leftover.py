@@ -4,8 +4,8 @@ from math import lcm
 
 from drawnbits.common import added, divided, is_within, times, total
 from drawnbits.equations import solved
-from drawnbits.errors import BadBits, BadNumber, BadRow
-from drawnbits.machines import are_bits
+from drawnbits.errors import BadNumber, BadRow
+from drawnbits.machines import check_bits
 from drawnbits.walks import walked
 
 MOST_WIDTH = 12
@@ -50,8 +50,7 @@ def wanted(w, rest, n, bits):
     if not is_rest(rest, w):
         raise BadRow(rest)
     check_want(w, n)
-    if not are_bits(bits):
-        raise BadBits(bits)
+    check_bits(bits)
     return drawn_behind(w, rest, n, bits, 0)
 
 
@@ -73,8 +72,7 @@ def drawn_behind(w, rest, n, bits, taken):
 def row_wanted(w, wants, bits):
     """The outcomes of a row of wants, the rest that is left, and how many bits are taken; None if they are too few."""
     check_wants(w, wants)
-    if not are_bits(bits):
-        raise BadBits(bits)
+    check_bits(bits)
     found = []
     rest, taken = (1, 0), 0
     for n in wants:

@@ -26,6 +26,12 @@ def are_bits(thing):
     return are_integers(thing, 0, 1)
 
 
+def check_bits(bits):
+    """Raises the error of a value that is no row of bits."""
+    if not are_bits(bits):
+        raise BadBits(bits)
+
+
 def check_machine(machine):
     """Raises the error of a value that is no machine."""
     if not is_machine(machine):
@@ -35,8 +41,7 @@ def check_machine(machine):
 def run(machine, bits):
     """The outcome with which the machine ends and how many of the bits it takes, None if it does not end."""
     check_machine(machine)
-    if not are_bits(bits):
-        raise BadBits(bits)
+    check_bits(bits)
     at, taken = led_to(machine[1], 0, bits)
     return (machine[1][at][1], taken) if is_out(machine[1][at]) else None
 

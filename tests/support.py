@@ -4,6 +4,7 @@ import unittest
 from fractions import Fraction
 
 from drawnbits.errors import DrawError
+from drawnbits.services import Service
 
 THIRDS = ((1, 3), (1, 3), (1, 3))
 HALVES = ((1, 2), (1, 2))
@@ -18,15 +19,16 @@ TABLES = (SURE, HALVES, EDGE, ((1, 3), (2, 3)), THIRDS, ((1, 2), (1, 4), (1, 4))
 
 DEEP = ((((((((((1,),),),),),),),),),)
 
-
-class Stranger:
-    """Stands for an object that is a value of no kind, as a service is for most parameters."""
-
+# A service, which is a value of no other kind.
+SHOP = Service()
+SHOP.put("coin", ("draw", HALVES))
+SHOP.feed((1, 0))
 
 # Values that are none of the kinds fraction, table, lot, names, tables, row, counts, figures, number.
 JUNK = (None, True, False, "", "within", "1/2", "lot", [], [1, 2], [[1, 2], [1, 2]], {}, {0: 1}, {(1, 2): (1, 2)},
-        (None,), ("a", "b"), (True,), (False, True), ([],), ({},), ((),), DEEP, (1.0, 2), 0.5, Stranger(),
-        (Stranger(),), ("within",), ("lot", (0,)), tuple([0] * 1999) + (True,), "x" * 2000, (-10 ** 99,), -1, -10 ** 99)
+        (None,), ("a", "b"), (True,), (False, True), ([],), ({},), ((),), DEEP, (1.0, 2), 0.5, SHOP,
+        (SHOP,), (1, SHOP), [SHOP], ("within",), ("lot", (0,)), tuple([0] * 1999) + (True,), "x" * 2000, (-10 ** 99,),
+        -1, -10 ** 99)
 
 WRONG_FRACTIONS = JUNK + (
     (), (1,), (1, 2, 3), (2, 4), (0, 2), (-2, 4), (1, 0), (0, 0), (1, -2), (-1, -2), (True, 2), (1, True), (False, 1),

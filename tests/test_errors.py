@@ -4,14 +4,14 @@ import inspect
 import unittest
 
 from drawnbits import errors
-from support import Case, Stranger
+from support import SHOP, Case
 
 THING = ("BadFraction", "BadTable", "BadOutcome", "BadLot", "BadNumber", "BadBits", "BadFigures", "BadMachine",
          "BadProgram", "BadFillings", "BadModel", "BadRow", "BadWords", "BadWay", "OtherSize", "BadClaim")
 PARAMETERS = dict([(name, ("thing",)) for name in THING])
 PARAMETERS.update({"Endless": ("certificate",), "TooMany": ("most",), "Unkept": ("claim",), "NothingToUndo": (),
                    "NothingToRedo": (), "BadText": ("at",)})
-VALUES = (None, True, 0, -7, 10 ** 99, "", "text", (), (1, 2), [], [1, [2]], {}, {"a": (1,)}, Stranger())
+VALUES = (None, True, 0, -7, 10 ** 99, "", "text", (), (1, 2), [], [1, [2]], {}, {"a": (1,)}, SHOP)
 
 
 class ErrorsTest(Case):

@@ -8,8 +8,8 @@ from math import gcd
 
 from drawnbits.errors import BadFigures, BadFraction, BadNumber, BadTable
 from drawnbits.figures import are_figures, digit, figures, fraction_of, is_entropy_at_least, rest_at, weight
-from support import (BELOW_ZERO, EDGE, EIGHT, HALVES, JUNK, SKEW, SURE, THIRDS, UNEVEN, WRONG_FRACTIONS, WRONG_NUMBERS,
-                     WRONG_TABLES, Case, Stranger, fraction, pair, table_of)
+from support import (BELOW_ZERO, EDGE, EIGHT, HALVES, JUNK, SHOP, SKEW, SURE, THIRDS, UNEVEN, WRONG_FRACTIONS,
+                     WRONG_NUMBERS, WRONG_TABLES, Case, fraction, pair, table_of)
 
 HUGE = 10 ** 30
 # All fractions with small bottoms, and some with great ones: a power of 2, a long round, both, and just 1,000.
@@ -150,7 +150,7 @@ class Figures(Case):
             (0, (), (0, -1)), (0, ("1",), ()), (0, ((1,),), ()),
             (0, "1", ""), (0, "", ""), ((0, 1), (), ()), ("0", (), ()), (0.0, (), ()), (0, (1, 0), ()), (0, (0,), ()),
             (0, (), (0,)), (0, (), (1,)), (0, (1,), (0,)), (0, (), (0, 0)), (0, (), (1, 1)), (0, (), (0, 1, 0, 1)),
-            (0, (1,), (0, 1)), (0, (0,), (1, 0)), (0, (), (0, 1), ()), ((0, (), ()),), (0, (Stranger(),), ()))
+            (0, (1,), (0, 1)), (0, (0,), (1, 0)), (0, (), (0, 1), ()), ((0, (), ()),), (0, (SHOP,), ()))
         for thing in things:
             with self.subTest(repr(thing)[:80]):
                 self.assert_calls(False, are_figures, thing=thing)
