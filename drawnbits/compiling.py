@@ -2,8 +2,7 @@
 
 from drawnbits.alike import folded
 from drawnbits.best import best_machine, first_above, least_mean, rests_at
-from drawnbits.common import added, check_number, divided, is_number, is_within, lowest, times, total
-from drawnbits.errors import BadOutcome
+from drawnbits.common import added, divided, is_number, lowest, times, total
 from drawnbits.machines import does_end, drawn_table, is_machine, many_rows, mean, tail
 from drawnbits.programs import check_closed, meaning_of, size_of
 from drawnbits.standings import few_rows_behind, followers, going_on, is_out
@@ -115,18 +114,12 @@ def is_plain_machine(program, thing):
 
 def length_chance(program, outcome, t):
     """The chance that a closed program, made part by part, comes to an outcome behind just t bits."""
-    check_closed(program)
-    if not is_within(outcome, 0, size_of(program) - 1):
-        raise BadOutcome(outcome)
-    check_number(t)
-    return lowest(many_rows(made_of(program), outcome, t), 1 << t)
+    return lowest(many_rows(plain_machine(program), outcome, t), 1 << t)
 
 
 def made_tail(program, t):
     """The chance that a closed program, made part by part, needs more than t bits."""
-    check_closed(program)
-    check_number(t)
-    return tail(made_of(program), t)
+    return tail(plain_machine(program), t)
 
 
 def judge_cost(program):

@@ -85,8 +85,8 @@ def row_wanted(w, wants, bits):
 
 
 def bits_to_fill(w, size):
-    """How many bits are taken until a rest of this size is wide enough."""
-    return max(0, w + 1 - size.bit_length())
+    """How many bits are taken until a rest of this size is wide enough, which none is that is left over."""
+    return w + 1 - size.bit_length()
 
 
 def filled_up(w, size):

@@ -96,7 +96,8 @@ class Nearest(Case):
         for table, t, found in ((THIRD, 0, EDGE), (HALVES, 1, HALVES), (HALVES, 30, HALVES), (FINE, 30, FINE),
                                 (SEVENTHS, 1, ((0, 1), (1, 2), (1, 2))), (FINE, 28, EDGE),
                                 (SEVENTHS, 2, ((1, 4), (1, 4), (1, 2))), (((1, 1000), (999, 1000)), 5, EDGE),
-                                (SURE, 0, SURE), (SKEW, 2, ((1, 4), (0, 1), (1, 2), (1, 4)))):
+                                (SURE, 0, SURE),
+                                (HALVES, 10 ** 99, HALVES), (SKEW, 2, ((1, 4), (0, 1), (1, 2), (1, 4)))):
             self.assert_calls(found, nearest, table=table, t=t)
 
     def test_several_nearest(self):

@@ -297,6 +297,9 @@ class Waiting(Case):
         self.assertEqual(own_most(model, w, 200), number)
         for other in (number - 1, number + 1):
             self.assertIs(waiting_holds(model, w, ("most", other, way)), False)
+        for other in ((), way[:-1], way[:len(way) // 2], some_way(model, 6, number)):
+            right = own(model, w, other).waiting == number
+            self.assertIs(waiting_holds(model, w, ("most", number, other)), right)
         return found
 
     def test_all(self):

@@ -476,6 +476,7 @@ class Claims(ServiceCase):
             ("bits", "nothing", (1, 1)), ("sure",), ("sure", "coin"), ("sure", "coin", 0, 1), ("sure", (0, 1), "coin"),
             ("sure", "nothing", (0, 1)), ("costs", "coin", (1, 1)), ("coin", "bits", (1, 1)), (0, "coin", (1, 1)),
             (None, "coin", (1, 1)), {"bits": "coin"}, "bits coin 1/1", ("sure", "coin", (0, 1), (0, 1)),
+            ("costs", "coin", (0, 1)), ("Sure", "coin", (0, 1)), (0, "coin", (0, 1)), (None, "one", (1,)),
             ("chance", "again", True, (1, 3)), ("chance", "again", 2, (2, 6)), ("chance", "one", False, (0, 1)),
             ("sure", "one", (True,)), ("sure", "again", [0, 1, 2]), ("sure", "again", (False, 1, 2)),
             ("bits", "again", (True, 1)), ("chance", "one", 0, (False, 1)), ("alike", "coin", True), (shop, shop, shop),
@@ -532,7 +533,9 @@ class Texts(ServiceCase):
         lines = FULL_TEXT.split("\n")
         wrong_ones = ("", " ", "put", "put ", "stock", "stock ", "claim", "claim ", "x", "put a", "put a value", "1",
                       "#", "put zz value 1 0 ", "Put zz value 1 0", "claim bits", "claim chance coin 0 1/3", "stock 2",
-                      "claim sure coin 0", "put zz draw 2 1/2", "put zz bind", "claim alike coin one", "stock 1 0")
+                      "claim sure coin 0", "put zz draw 2 1/2", "put zz bind", "claim alike coin one", "stock 1 0",
+                      "x alike twice coin", "claims sure coin 0 1", "alike twice coin", "claim costs coin 0 1",
+                      "Claim sure coin 0 1", "put sure coin 0 1", "stock sure coin 0 1")
         for k in range(len(lines)):
             for wrong in wrong_ones:
                 self.refused("\n".join(lines[:k] + [wrong] + lines[k + 1:]), k + 1)

@@ -309,6 +309,13 @@ class WordsAsMachines(Case):
                                ((3, (("toss", 1, 2), ("out", 1), ("out", 0))), None)):
             self.assert_calls(found, words_of, machine=machine)
 
+    def test_a_fourth_row_of_two_bits(self):
+        tosses, outs = (("toss", 1, 2), ("toss", 3, 4), ("toss", 5, 6)), (("out", 2), ("out", 0), ("out", 1))
+        for last in (("out", 0), ("out", 2), ("toss", 6, 6), ("toss", 3, 4), ("toss", 0, 0), ("toss", 5, 6)):
+            self.assert_calls(None, words_of, machine=(3, tosses + outs + (last,)))
+        words = ((0, 1), (1, 0), (0, 0), (1, 1))
+        self.assert_calls(words, words_of, machine=(4, tosses + outs + (("out", 3),)))
+
 
 class Errors(Case):
     """[0.2], "The interface": which errors are raised, in the order of the parameters."""
